@@ -1,0 +1,1 @@
+"""Loopsdeep: how deep loops must nest. Import from the modules of this package."""

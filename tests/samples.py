@@ -1,0 +1,155 @@
+"""Values that several tests share."""
+
+import itertools
+import random
+
+from loopsdeep.errors import BadMachine, LoopError
+from loopsdeep.expressions import Expression, letter, one
+from loopsdeep.machines import Machine
+from loopsdeep.makers import all_ways, corridor, ring
+
+LETTERS = "abcdefghijklmnopqrstuvwxyz"
+
+
+def nested(many):
+    value = ()
+    for level in range(many):
+        value = (value,) if level % 2 else [value]
+    return value
+
+
+def odd_values():
+    """Values of all kinds, few of which are valid anywhere."""
+    return [
+        None, True, False, 0, 1, -1, -2, 26, 999, 1000, 10 ** 39, -10 ** 39,
+        "", "a", "z", "A", "aa", "1", "0", " ", "\n", "{", "`", "a" * 4000, "()", "(a b)", "machine", "one", "loop",
+        (), (0,), (-1,), (True,), (False, "a", 0), (0, "a", 0), (0, "a", 1, 2), ((0, "a", 0),), (0, 1, 2), ("a",),
+        [], [0], ["a"], [(0, "a", 0)], {}, {"a": 1}, {0: []}, ([],), ({},), ((),), nested(30),
+        ring(2), corridor(3), one(), letter("a"), Expression.read("(a b)*"), (ring(1),), (one(),), [letter("a")],
+        LoopError(), BadMachine("size"), Machine, letter,
+    ]
+
+
+def random_machine(rng, most=6, letters="abc"):
+    """A machine with random moves, those of its states that lie on no path being left out."""
+    while True:
+        size = rng.randint(1, most)
+        leaving, entering = {}, {}
+        for _ in range(rng.randint(0, 2 * size)):
+            source, sign, target = rng.randrange(size), rng.choice(letters), rng.randrange(size)
+            if (source, sign) not in leaving and (target, sign) not in entering:
+                leaving[source, sign] = target
+                entering[target, sign] = source
+        first, last = rng.randrange(size), rng.randrange(size)
+        moves = [(source, sign, target) for (source, sign), target in leaving.items()]
+        kept = sorted(states_on_paths(first, last, moves))
+        if first not in kept:
+            continue
+        rng.shuffle(kept)
+        number = {state: place for place, state in enumerate(kept)}
+        moves = [(number[s], sign, number[t]) for s, sign, t in moves if s in number and t in number]
+        return Machine(len(kept), number[first], number[last], tuple(sorted(moves)))
+
+
+def closure(start, pairs):
+    found = {start}
+    while True:
+        more = {target for source, target in pairs if source in found} - found
+        if not more:
+            return found
+        found |= more
+
+
+def states_on_paths(first, last, moves):
+    ahead = closure(first, [(s, t) for s, _, t in moves])
+    behind = closure(last, [(t, s) for s, _, t in moves])
+    return ahead & behind
+
+
+def random_machines(seed, many, **how):
+    rng = random.Random(seed)
+    return [random_machine(rng, **how) for _ in range(many)]
+
+
+def all_words(letters, most):
+    """All words over some letters with at most so many, shorter ones first, then ascending."""
+    return ["".join(signs) for length in range(most + 1) for signs in itertools.product(sorted(letters), repeat=length)]
+
+
+def end_of(machine, word):
+    """The state in which the path from the first state ends that spells a word, found from the moves alone."""
+    states = [machine.first]
+    for sign in word:
+        states = [t for s, by, t in machine.moves if s in states and by == sign]
+    return states[0] if states else None
+
+
+def words_of(machine, most):
+    return [word for word in all_words(machine.letters, most) if end_of(machine, word) == machine.last]
+
+
+def random_expression(rng, many, letters="ab"):
+    """An expression with so many letters, and perhaps with ones in between."""
+    if many <= 1:
+        made = letter(rng.choice(letters)) if many else one()
+    else:
+        cuts = sorted(rng.sample(range(many + 2), rng.randint(1, min(2, many))))
+        cuts = [0] + [min(cut, many) for cut in cuts] + [many]
+        parts = [random_expression(rng, after - before, letters) for before, after in zip(cuts, cuts[1:])]
+        made = Expression(rng.choice(["row", "choice"]), tuple(parts))
+    for _ in range(rng.choice([0, 0, 1, 1, 2])):
+        made = Expression(rng.choice(["loop", "some", "maybe"]), (made,))
+    return made
+
+
+def words_within(expression, most, labels):
+    """The set of the words with at most so many letters, the letters being replaced by labels from an iterator."""
+    kind = expression.kind
+    if kind == "one":
+        return {""}
+    if kind == "letter":
+        label = next(labels)
+        return {label} if most > 0 else set()
+    inner = [words_within(part, most, labels) for part in expression.parts]
+    if kind == "row":
+        words = {""}
+        for part in inner:
+            words = one_behind_the_other(words, part, most)
+        return words
+    if kind in ("choice", "maybe"):
+        return set().union(*inner, {""} if kind == "maybe" else set())
+    words = rounds = inner[0] if kind == "some" else {""} | inner[0]
+    while rounds:
+        rounds = one_behind_the_other(rounds, inner[0], most) - words
+        words = words | rounds
+    return words
+
+
+def one_behind_the_other(words, others, most):
+    by_length = [[other for other in others if len(other) == length] for length in range(most + 1)]
+    return {word + other for word in words for length in range(most + 1 - len(word)) for other in by_length[length]}
+
+
+def letters_in(text):
+    """The letters of the text of an expression, in order."""
+    return [sign for sign in text if sign in LETTERS]
+
+
+def sample_texts():
+    return [
+        "1", "a", "(a b)", "(a | b)", "a*", "a+", "a?", "1*", "1+", "1?", "(1 1)", "(1 | 1)", "(1 | a)", "(a 1 b)",
+        "((a b)* | c)?", "(a (a (a b)* b)* b)*", "(1 | (a ((b a) | (a (a b)* b))* b))", "((a b) c)", "(a (b c))",
+        "((a | b) | c)", "(a | (b | c))", "(a | b | c)", "(a b c)", "(a? b? c?)", "(a* b+ c?)+", "(a b? c* d)",
+        "((a? b?) | c)+", "((a | 1) (b | 1))*", "a*+?", "(a | (b c))*", "((a b)+ a?)*", "(a b a b)*", "(z y x)",
+    ]
+
+
+def sample_machines():
+    makers = [maker(size) for maker in (ring, corridor, all_ways) for size in (1, 2, 3, 5)]
+    return makers + [
+        Machine(1, 0, 0, ((0, "a", 0), (0, "b", 0), (0, "z", 0))),
+        Machine(2, 0, 1, ((0, "a", 1),)),
+        Machine(2, 1, 0, ((1, "b", 0),)),
+        Machine(3, 2, 1, ((0, "c", 0), (0, "x", 1), (2, "x", 0))),
+        Machine(4, 1, 3, ((0, "a", 2), (1, "a", 0), (1, "b", 2), (2, "a", 3), (2, "c", 1))),
+    ]

@@ -1,0 +1,101 @@
+"""The head of "The interface": where everything is defined, and how parameters can be passed."""
+
+import inspect
+import unittest
+
+from loopsdeep import errors, expressions, machines, makers, positions
+from loopsdeep.errors import BadText
+from loopsdeep.expressions import Expression, one
+from loopsdeep.machines import Machine
+from loopsdeep.makers import corridor
+from tests.samples import random_machines, sample_texts
+
+# For each function: its parameters; "=" marks a default value, "*" those that follow as passed only by name.
+FUNCTIONS = {
+    machines: {"is_word": ["thing"]},
+    makers: {"ring": ["size"], "corridor": ["size"], "all_ways": ["size"]},
+    expressions: {"one": [], "letter": ["sign"], "joined": ["*expressions"], "chosen": ["*expressions"]},
+    positions: {"position_letters": ["expression"], "is_lot": ["expression", "thing"],
+                "is_ending": ["expression", "lot"], "lot_behind": ["expression", "lot", "letter"]},
+    errors: {},
+}
+METHODS = {
+    Machine: {"__init__": ["size", "first", "last", "moves"], "after": ["state", "letter"],
+              "before": ["state", "letter"], "state_of": ["word"], "words": ["*", "most=None"], "backward": [],
+              "renamed": ["**letters"], "numbered": [], "is_same": ["other"], "read": ["text"], "__len__": [],
+              "__str__": [], "__eq__": ["other"], "__and__": ["other"], "__contains__": ["word"]},
+    Expression: {"__init__": ["kind", "parts=()"], "read": ["text"], "loop": [], "some": [], "maybe": [],
+                 "backward": [], "__str__": [], "__eq__": ["other"], "__add__": ["other"], "__or__": ["other"],
+                 "__contains__": ["word"]},
+}
+ATTRIBUTES = {
+    Machine: {"size": int, "first": int, "last": int, "moves": tuple, "letters": str},
+    Expression: {"kind": str, "parts": tuple, "depth": int, "size": int, "letters": str},
+}
+
+
+def told(function):
+    """The parameters of a function in the form of the tables above, without the object of a method."""
+    found = []
+    for name, parameter in inspect.signature(function).parameters.items():
+        if parameter.kind == parameter.KEYWORD_ONLY and "*" not in found:
+            found.append("*")
+        mark = {parameter.VAR_POSITIONAL: "*", parameter.VAR_KEYWORD: "**"}.get(parameter.kind, "")
+        default = "" if parameter.default is parameter.empty else f"={parameter.default!r}"
+        if name != "self":
+            found.append(mark + name + default)
+    return found
+
+
+class InterfaceTest(unittest.TestCase):
+
+    def test_functions(self):
+        for module, functions in FUNCTIONS.items():
+            for name, parameters in functions.items():
+                function = getattr(module, name)
+                self.assertEqual(function.__module__, module.__name__)
+                self.assertEqual(told(function), parameters, name)
+
+    def test_methods(self):
+        for kind, methods in METHODS.items():
+            for name, parameters in methods.items():
+                self.assertIn(name, vars(kind))
+                self.assertEqual(told(getattr(kind, name)), parameters, name)
+        self.assertEqual((Machine.__module__, Expression.__module__), ("loopsdeep.machines", "loopsdeep.expressions"))
+
+    def test_attributes(self):
+        made = random_machines(51, 20) + [Expression.read(text) for text in sample_texts()]
+        for thing in made:
+            for name, kind in ATTRIBUTES[thing.__class__].items():
+                self.assertIs(type(getattr(thing, name)), kind)
+                self.assertIn(name, vars(thing))
+
+    def test_read_is_a_class_method(self):
+        self.assertIsInstance(Machine.read("machine 1\nends 0 0"), Machine)
+        self.assertIsInstance(Expression.read("1"), Expression)
+        self.assertEqual(corridor(2).read("machine 1\nends 0 0"), corridor(1))
+        self.assertEqual(one().read("(a b)"), Expression.read("(a b)"))
+        for kind in (Machine, Expression):
+            with self.assertRaises(BadText):
+                kind.read(text=None)
+
+    def test_no_object_is_iterated_over(self):
+        for thing in (corridor(3), Expression.read("(a b)")):
+            with self.assertRaises(TypeError):
+                iter(thing)
+
+    def test_same_call_returns_an_equal_result(self):
+        for machine in random_machines(52, 20):
+            self.assertEqual(machine.numbered(), machine.numbered())
+            self.assertEqual(machine.backward(), machine.backward())
+            self.assertEqual(list(machine.words(most=3)), list(machine.words(most=3)))
+        for text in sample_texts():
+            expression = Expression.read(text)
+            self.assertEqual(expression.backward(), expression.backward())
+            for letter in expression.letters:
+                self.assertEqual(positions.lot_behind(expression, (-1,), letter),
+                                 positions.lot_behind(expression, (-1,), letter))
+
+
+if __name__ == "__main__":
+    unittest.main()
