@@ -1,22 +1,26 @@
 """Which letters of an expression can be read behind which others."""
 
-from loopsdeep.expression_trees import letters_of, nodes_of
+from loopsdeep.expression_trees import Tree
 
 
 class Follows:
     """How words go through the positions of an expression.
 
-    A joint is a pair of tuples of positions: behind each one of the first, each one of the second can be read.
+    A span of a part tells whether the empty word is one of its words, at which positions they begin and at which they
+    end. A joint is a pair of tuples of positions: behind each one of the first, each one of the second can be read.
     Joints take the place of all pairs of positions, of which there can be far more.
     """
 
     def __init__(self, expression):
-        span, joints = span_and_joints(expression)
-        self.letters = letters_of(expression)
-        self.is_empty_read, self.firsts, lasts = span
+        self.tree = Tree(expression)
+        self.letters = "".join([node.parts[0] for node in self.tree.nodes if node.kind == "letter"])
+        self.spans = spans_of(self.tree)
+        self.is_empty_read, self.firsts, lasts = self.spans[-1]
         self.lasts = {position: True for position in lasts}
-        self.joints = joints
-        self.joints_behind = joints_of_positions(len(self.letters), joints)
+        self.joints, self.round_joints = joints_of(self.tree, self.spans)
+        # For each position, the numbers of the joints in whose first, or in whose second, tuple it is.
+        self.joints_behind = numbers_at(len(self.letters), [joint[0] for joint in self.joints])
+        self.joints_before = numbers_at(len(self.letters), [joint[1] for joint in self.joints])
 
     def is_end(self, lot):
         """Whether a lot is ending."""
@@ -28,6 +32,13 @@ class Follows:
         """The lot behind a lot by a letter."""
         return tuple([position for position in self.next_positions(lot) if self.letters[position] == letter])
 
+    def lots_behind(self, lot):
+        """A dict of the lots behind a lot by each letter, those that are empty left out."""
+        found = {}
+        for position in self.next_positions(lot):
+            found.setdefault(self.letters[position], []).append(position)
+        return {letter: tuple(positions) for letter, positions in found.items()}
+
     def next_positions(self, lot):
         """The positions that can be read directly behind a lot, ascending."""
         if lot == (-1,):
@@ -35,36 +46,25 @@ class Follows:
         numbers = sorted(set([number for position in lot for number in self.joints_behind[position]]))
         return sorted(set([position for number in numbers for position in self.joints[number][1]]))
 
+    def is_joined(self, number, position, after):
+        """Whether a joint lets a position be read directly behind another one."""
+        return number in self.joints_before[after] and number in self.joints_behind[position]
 
-def joints_of_positions(size, joints):
-    """For each position, the numbers of the joints in whose first tuple it is."""
-    numbers = [[] for _ in range(size)]
-    for number, joint in enumerate(joints):
-        for position in joint[0]:
-            numbers[position].append(number)
-    return numbers
+    def is_behind(self, position, after):
+        """Whether a position can be read directly behind another one."""
+        return any([number in self.joints_behind[position] for number in self.joints_before[after]])
 
 
-def span_and_joints(expression):
-    """The span of an expression and its joints.
-
-    A span tells whether the empty word is one, at which positions words begin and at which they end.
-    """
+def spans_of(tree):
+    """The spans of the nodes of a tree."""
     spans = []
-    joints = []
-    size = 0
-    for node in nodes_of(expression):
+    for number, node in enumerate(tree.nodes):
         if node.kind == "letter":
-            spans.append((False, (size,), (size,)))
-            size += 1
+            start = tree.starts[number]
+            spans.append((False, (start,), (start,)))
         else:
-            inner = []
-            for _ in node.parts:
-                inner.append(spans.pop())
-            inner = inner[::-1]
-            joints.extend(joints_within(node.kind, inner))
-            spans.append(span_around(node.kind, inner))
-    return spans[0], joints
+            spans.append(span_around(node.kind, [spans[part] for part in tree.inner[number]]))
+    return spans
 
 
 def span_around(kind, inner):
@@ -79,16 +79,6 @@ def span_around(kind, inner):
     return is_empty_read, firsts, lasts
 
 
-def joints_within(kind, inner):
-    """The joints between the parts of an expression of a kind, which have some spans."""
-    if kind == "row":
-        behind = spans_in_row(inner)
-        return [(behind[place][2], inner[place + 1][1]) for place in range(len(inner) - 1)]
-    if kind in ("loop", "some"):
-        return [(inner[0][2], inner[0][1])]
-    return []
-
-
 def spans_in_row(inner):
     """The spans of a row's first part, first two parts and so on up to all, the parts having some spans."""
     spans = [inner[0]]
@@ -98,3 +88,27 @@ def spans_in_row(inner):
         lasts = before[2] + part[2] if part[0] else part[2]
         spans.append((before[0] and part[0], firsts, lasts))
     return spans
+
+
+def joints_of(tree, spans):
+    """The joints of an expression, and a dict of the joint between two rounds for the numbers of its loops."""
+    joints = []
+    round_joints = {}
+    for number, node in enumerate(tree.nodes):
+        inner = [spans[part] for part in tree.inner[number]]
+        if node.kind == "row":
+            behind = spans_in_row(inner)
+            joints.extend([(behind[place][2], inner[place + 1][1]) for place in range(len(inner) - 1)])
+        elif node.kind in ("loop", "some"):
+            round_joints[number] = len(joints)
+            joints.append((inner[0][2], inner[0][1]))
+    return joints, round_joints
+
+
+def numbers_at(size, groups):
+    """For each position, the numbers of the groups of positions in which it is."""
+    numbers = [[] for _ in range(size)]
+    for number, group in enumerate(groups):
+        for position in group:
+            numbers[position].append(number)
+    return numbers

@@ -30,6 +30,57 @@ def odd_values():
     ]
 
 
+def made_otherwise(rng, value):
+    """A value with one of its parts, at any depth, replaced, left out, given twice, turned about or exchanged."""
+    if isinstance(value, (tuple, list)) and value and rng.random() < 0.8:
+        items = list(value)
+        at = rng.randrange(len(items))
+        how = rng.randrange(10)
+        if how == 0:
+            del items[at]
+        elif how == 1:
+            items.insert(at, items[at])
+        elif how == 2:
+            items.reverse()
+        elif how == 3:
+            other = rng.randrange(len(items))
+            items[at], items[other] = items[other], items[at]
+        else:
+            items[at] = made_otherwise(rng, items[at])
+        return type(value)(items)
+    if isinstance(value, tuple):
+        return rng.choice([list(value), value + (0,), value + ((0, "a", 0),), value + value[:1], (), (value,)])
+    if isinstance(value, int):
+        return rng.choice([value + 1, value - 1, bool(value), str(value), 0, (value,), rng.choice(odd_values())])
+    if isinstance(value, str):
+        return rng.choice([rng.choice(LETTERS), value.upper(), value * 2, "", 0, (value,), [value]])
+    if isinstance(value, Expression):
+        return expression_otherwise(rng, value)
+    return rng.choice(odd_values())
+
+
+def expression_otherwise(rng, expression):
+    """An expression with another letter, a part otherwise or in another place, or something else in its place."""
+    text = str(expression)
+    at = rng.randrange(len(text))
+    try:
+        return Expression.read(text[:at] + rng.choice("1ab*+?") + text[at + rng.randrange(2):])
+    except LoopError:
+        return rng.choice([text, None, expression.kind, expression.parts, expression.loop(), expression.maybe(),
+                           expression.backward(), expression + one(), one() | expression])
+
+
+def shown(value):
+    """A string that tells a value whole, so that two strings tell whether a value was changed."""
+    if isinstance(value, (tuple, list)):
+        return f"{type(value).__name__}[{', '.join(shown(item) for item in value)}]"
+    if isinstance(value, dict):
+        return f"dict[{', '.join(shown(key) + ': ' + shown(item) for key, item in value.items())}]"
+    if isinstance(value, (Machine, Expression)):
+        return f"{type(value).__name__}[{value}; {shown(list(vars(value)))}]"
+    return f"{type(value).__name__}[{value!r}]"
+
+
 def random_machine(rng, most=6, letters="abc"):
     """A machine with random moves, those of its states that lie on no path being left out."""
     while True:
@@ -128,6 +179,20 @@ def words_within(expression, most, labels):
 def one_behind_the_other(words, others, most):
     by_length = [[other for other in others if len(other) == length] for length in range(most + 1)]
     return {word + other for word in words for length in range(most + 1 - len(word)) for other in by_length[length]}
+
+
+def reading_by_hand(rng, expression, rounds=3):
+    """Any reading of any word, empty rounds among the others, with at most so many rounds."""
+    kind, parts = expression.kind, expression.parts
+    if kind == "letter":
+        return parts[0]
+    if kind == "choice":
+        index = rng.randrange(len(parts))
+        return index, reading_by_hand(rng, parts[index], rounds)
+    if kind in ("one", "row"):
+        return tuple(reading_by_hand(rng, part, rounds) for part in parts)
+    least, most = {"loop": (0, rounds), "some": (1, rounds), "maybe": (0, 1)}[kind]
+    return tuple(reading_by_hand(rng, parts[0], rounds) for _ in range(rng.randint(least, most)))
 
 
 def letters_in(text):

@@ -6,7 +6,10 @@ import unittest
 from loopsdeep.errors import BadExpression, BadText
 from loopsdeep.expressions import Expression, chosen, joined, letter, one
 from loopsdeep.makers import ring
-from tests.samples import LETTERS, all_words, letters_in, odd_values, random_expression, sample_texts, words_within
+from tests.references import is_word_of, word_read
+from tests.samples import (
+    LETTERS, all_words, letters_in, made_otherwise, odd_values, random_expression, reading_by_hand, sample_texts,
+    shown, words_within)
 
 KINDS = ("one", "letter", "row", "choice", "loop", "some", "maybe")
 A, B, C = letter("a"), letter("b"), letter("c")
@@ -61,6 +64,34 @@ def depth_of(expression):
     if expression.kind == "letter":
         return 0
     return max([depth_of(part) for part in expression.parts] + [0]) + (expression.kind in ("loop", "some"))
+
+
+def expected_part(kind, parts):
+    """The part that is not as described, in a list, or an empty list; worked out from the words of the interface."""
+    least = {"one": 0, "letter": 1, "row": 2, "choice": 2, "loop": 1, "some": 1, "maybe": 1}
+    if type(kind) is not str or kind not in least:
+        return ["kind"]
+    if type(parts) is not tuple or len(parts) < least[kind]:
+        return ["parts"]
+    if len(parts) > least[kind] and kind not in ("row", "choice"):
+        return ["parts"]
+    for part in parts:
+        if kind == "letter" and not (type(part) is str and part in list(LETTERS)):
+            return [part]
+        if kind != "letter" and not isinstance(part, Expression):
+            return [part]
+    return []
+
+
+def deep_expression(rng, operators):
+    """An expression with so many operators within one another and two to three times as many letters."""
+    made = letter(rng.choice(LETTERS))
+    for _ in range(operators):
+        more = random_expression(rng, rng.randint(2, 3), LETTERS)
+        kind = rng.choice(["row", "row", "choice", "loop", "some", "maybe"])
+        pair = (made, more) if rng.random() < 0.5 else (more, made)
+        made = Expression(kind, pair if kind in ("row", "choice") else (made + more,))
+    return made
 
 
 def samples(seed=31, many=150):
@@ -128,6 +159,41 @@ class PartsTest(unittest.TestCase):
                     self.refuses(value, kind, (A, value))
                     self.refuses(value, kind, (value, A))
                     self.refuses(value, kind, (A, A, value, None, B))
+
+    def test_expressions_made_otherwise(self):
+        rng = random.Random(34)
+        many = {True: 0, False: 0}
+        expressions = samples(many=60)
+        for _ in range(6000):
+            expression = rng.choice(expressions)
+            parts = (expression.kind, expression.parts)
+            for _ in range(rng.choice([1, 1, 1, 2, 3])):
+                parts = made_otherwise(rng, tuple(parts))
+            if len(parts) != 2:
+                continue
+            before = shown(parts)
+            expected = expected_part(*parts)
+            many[expected == []] += 1
+            if not expected:
+                made = Expression(*parts)
+                self.assertIs(made.kind, parts[0])
+                self.assertIs(made.parts, parts[1])
+            elif expected[0] in ("kind", "parts"):
+                self.refuses_word(expected[0], *parts)
+            else:
+                self.refuses(expected[0], *parts)
+            self.assertEqual(shown(parts), before)
+        self.assertGreater(min(many.values()), 300)
+
+    def test_several_things_wrong(self):
+        self.refuses_word("kind", "rows", [None])
+        self.refuses_word("kind", None, None)
+        self.refuses_word("kind", True, ())
+        self.refuses_word("parts", "row", (None,))
+        self.refuses_word("parts", "letter", ("A", "B"))
+        self.refuses_word("parts", "row", [None, None])
+        wrong = [A]
+        self.refuses(wrong, "row", (A, wrong, None, "a"))
 
     def test_by_name(self):
         self.assertEqual(Expression(parts=("a",), kind="letter"), A)
@@ -296,6 +362,51 @@ class WordTest(unittest.TestCase):
         self.assertFalse("a" * 61 in Expression.read("(" + " ".join(["a?"] * 60) + ")"))
 
 
+    def check_words(self, rng, expression, words):
+        """Compares words and words near to them with the paths of the expression; returns how many are words."""
+        found = 0
+        for word in words:
+            at = rng.randrange(len(word) + 1)
+            for near in (word, word[:at] + rng.choice(["", *LETTERS]) + word[at + 1:]):
+                expected = is_word_of(expression, near)
+                self.assertIs(near in expression, expected)
+                found += expected
+        return found
+
+    def test_twenty_operators_within_one_another(self):
+        rng = random.Random(35)
+        found = 0
+        for _ in range(60):
+            expression = deep_expression(rng, 20)
+            words = [word_read(expression, reading_by_hand(rng, expression, 2)) for _ in range(6)]
+            found += self.check_words(rng, expression, [word for word in words if len(word) <= 200])
+        self.assertTrue(250 < found < 500, found)
+
+    def test_sixty_letters_and_words_of_two_hundred(self):
+        rng = random.Random(36)
+        found = 0
+        for _ in range(20):
+            inner = random_expression(rng, 60, LETTERS[:12])
+            word = ""
+            while len(word) < 150:
+                word += word_read(inner, reading_by_hand(rng, inner, 2)) or "a"
+            found += self.check_words(rng, inner.loop(), [word[:200], word[:-1], word[1:]])
+        self.assertTrue(20 < found < 100, found)
+
+    def test_loops_within_loops(self):
+        for text, words, others in (
+                ("((a b)* | c)+", ["", "ab", "abcab", "cc"], ["a", "ba", "abca"]),
+                ("((a+ b)+ c)+", ["abc", "aabababc" * 20, "abcaabc"], ["", "ac", "abcb", "ab"]),
+                ("((a* b)* (b* a)*)+", ["", "a" * 200, "ab" * 100, "bbbaaab"], ["c", "abc"]),
+                ("(a (b (c d*)* b)* a)*", ["", "aa", "abba", "abcddcdba" * 20], ["a", "ab", "aba", "abcba a"])):
+            expression = Expression.read(text)
+            for word in words:
+                self.assertIs(word in expression, True)
+                self.assertIs(is_word_of(expression, word), True)
+            for word in others:
+                self.assertIs(word in expression, False)
+
+
 class MadeTest(unittest.TestCase):
 
     def test_row_of_both(self):
@@ -303,6 +414,8 @@ class MadeTest(unittest.TestCase):
         self.assertEqual(str(A + B + C), "((a b) c)")
         self.assertEqual(str(A + (B + C)), "(a (b c))")
         self.assertEqual(str((A | B) + C), "((a | b) c)")
+        self.assertEqual([str(part) for part in ((A + B) + (B + C)).parts], ["(a b)", "(b c)"])
+        self.assertEqual([str(part) for part in ((A | B) | (B | C)).parts], ["(a | b)", "(b | c)"])
 
     def test_choice_of_both(self):
         self.assertEqual(str(A | B), "(a | b)")
@@ -327,6 +440,7 @@ class MadeTest(unittest.TestCase):
             self.assertIs(made(pair), pair)
         self.assertEqual(str(joined(A, B)), "(a b)")
         self.assertEqual(str(joined(A, B + C, A)), "(a (b c) a)")
+        self.assertEqual(str(joined(A + B, B + C)), "((a b) (b c))")
         self.assertEqual(str(chosen(A, B)), "(a | b)")
         self.assertEqual(str(chosen(A, B | C, A)), "(a | (b | c) | a)")
         self.assertIsInstance(joined(A, B, C).parts, tuple)

@@ -3,12 +3,12 @@
 import inspect
 import unittest
 
-from loopsdeep import errors, expressions, machines, makers, positions
-from loopsdeep.errors import BadText
+from loopsdeep import errors, expressions, judging, machines, makers, positions, ranks, readings
+from loopsdeep.errors import BadLevels, BadText
 from loopsdeep.expressions import Expression, one
 from loopsdeep.machines import Machine
 from loopsdeep.makers import corridor
-from tests.samples import random_machines, sample_texts
+from tests.samples import random_machines, sample_texts, shown
 
 # For each function: its parameters; "=" marks a default value, "*" those that follow as passed only by name.
 FUNCTIONS = {
@@ -17,6 +17,14 @@ FUNCTIONS = {
     expressions: {"one": [], "letter": ["sign"], "joined": ["*expressions"], "chosen": ["*expressions"]},
     positions: {"position_letters": ["expression"], "is_lot": ["expression", "thing"],
                 "is_ending": ["expression", "lot"], "lot_behind": ["expression", "lot", "letter"]},
+    readings: {"reading": ["expression", "word"], "reading_holds": ["expression", "word", "thing"],
+               "rounds_of": ["expression", "reading"]},
+    ranks: {"knots": ["machine", "states"], "rank": ["machine"], "levels": ["machine"],
+            "levels_hold": ["machine", "thing"], "nest": ["machine"], "nest_holds": ["machine", "thing"],
+            "least_cuts": ["machine"]},
+    judging: {"expression_for": ["machine", "*", "levels=None"], "table": ["machine", "expression"],
+              "table_holds": ["machine", "expression", "thing"], "parting_word": ["machine", "expression"],
+              "judge": ["machine", "depth"], "judge_holds": ["machine", "depth", "thing"]},
     errors: {},
 }
 METHODS = {
@@ -95,6 +103,43 @@ class InterfaceTest(unittest.TestCase):
             for letter in expression.letters:
                 self.assertEqual(positions.lot_behind(expression, (-1,), letter),
                                  positions.lot_behind(expression, (-1,), letter))
+            for word in ("", "a", "ab"):
+                self.assertEqual(readings.reading(expression, word), readings.reading(expression, word))
+        for machine in random_machines(53, 20, most=5):
+            for function in (ranks.rank, ranks.levels, ranks.nest, ranks.least_cuts, judging.expression_for):
+                self.assertEqual(function(machine), function(machine))
+            for depth in range(3):
+                self.assertEqual(judging.judge(machine, depth), judging.judge(machine, depth))
+
+    def test_arguments_are_not_changed(self):
+        for machine in random_machines(54, 20, most=5):
+            expression = judging.expression_for(machine)
+            found = judging.table(machine, expression)
+            paper = judging.judge(machine, 0)
+            before = shown([machine, expression, found, paper])
+            told = list(found)
+            for function in (ranks.rank, ranks.levels, ranks.nest, ranks.least_cuts):
+                function(machine)
+            ranks.knots(machine, tuple(range(machine.size)))
+            for thing in (found, told, paper, ranks.levels(machine), ranks.nest(machine)):
+                ranks.levels_hold(machine, thing)
+                ranks.nest_holds(machine, thing)
+                judging.table_holds(machine, expression, thing)
+                judging.judge_holds(machine, 0, thing)
+                readings.reading_holds(expression, "a", thing)
+            judging.parting_word(machine, expression)
+            "ab" in expression
+            readings.reading(expression, "ab")
+            self.assertEqual(shown([machine, expression, found, paper]), before)
+            self.assertEqual(told, list(found))
+
+    def test_errors_that_levels_raise(self):
+        told = [1, 0]
+        with self.assertRaises(BadLevels) as context:
+            judging.expression_for(machine=corridor(2), levels=told)
+        self.assertIs(context.exception.levels, told)
+        with self.assertRaises(TypeError):
+            judging.expression_for(corridor(2), (1, 0))
 
 
 if __name__ == "__main__":

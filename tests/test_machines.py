@@ -6,7 +6,7 @@ import unittest
 from loopsdeep.errors import BadMachine
 from loopsdeep.machines import Machine, is_word
 from loopsdeep.makers import all_ways, corridor, ring
-from tests.samples import LETTERS, closure, odd_values, random_machines, sample_machines
+from tests.samples import LETTERS, closure, made_otherwise, odd_values, random_machines, sample_machines
 
 
 def whole(thing):
@@ -36,33 +36,6 @@ def expected_part(size, first, last, moves):
     ahead = closure(first, [(s, t) for s, _, t in moves])
     behind = closure(last, [(t, s) for s, _, t in moves])
     return sorted(set(range(size)) - (ahead & behind))[:1]
-
-
-def made_otherwise(rng, value):
-    """A value with one of its parts replaced, left out, given twice, turned about or exchanged."""
-    if isinstance(value, (tuple, list)) and value and rng.random() < 0.75:
-        items = list(value)
-        at = rng.randrange(len(items))
-        how = rng.randrange(7)
-        if how == 0:
-            del items[at]
-        elif how == 1:
-            items.insert(at, items[at])
-        elif how == 2:
-            items.reverse()
-        elif how == 3:
-            other = rng.randrange(len(items))
-            items[at], items[other] = items[other], items[at]
-        else:
-            items[at] = made_otherwise(rng, items[at])
-        return type(value)(items)
-    if isinstance(value, tuple):
-        return rng.choice([list(value), value + (0,), value + ((0, "a", 0),)])
-    if isinstance(value, int):
-        return rng.choice([value + 1, value - 1, bool(value), str(value), 0])
-    if isinstance(value, str):
-        return rng.choice([rng.choice(LETTERS), value.upper(), value * 2, "", 0])
-    return rng.choice(odd_values())
 
 
 class MachineCase(unittest.TestCase):
