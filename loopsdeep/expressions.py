@@ -47,13 +47,7 @@ class Expression:
         return built[0]
 
     def __contains__(self, word):
-        if not is_word(word):
-            return False
-        follows = Follows(self)
-        lot = (-1,)
-        for sign in word:
-            lot = follows.lot_by(lot, sign)
-        return follows.is_end(lot)
+        return is_word(word) and Follows(self).reads(word)
 
     def __add__(self, other):
         if not isinstance(other, Expression):

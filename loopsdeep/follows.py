@@ -28,6 +28,13 @@ class Follows:
             return self.is_empty_read
         return any([position in self.lasts for position in lot])
 
+    def reads(self, word):
+        """Whether a word is one of the expression."""
+        lot = (-1,)
+        for letter in word:
+            lot = self.lot_by(lot, letter)
+        return self.is_end(lot)
+
     def lot_by(self, lot, letter):
         """The lot behind a lot by a letter."""
         return tuple([position for position in self.next_positions(lot) if self.letters[position] == letter])

@@ -5,10 +5,14 @@ Nothing here is quick; each function follows its point as closely as it can and 
 
 import functools
 import itertools
+import re
 
+from loopsdeep.errors import BadMachine, BadText, InvalidCommand, NoMachine
 from loopsdeep.expressions import Expression
+from loopsdeep.judging import parting_word
+from loopsdeep.machines import Machine
 from loopsdeep.positions import is_ending, lot_behind
-from tests.samples import all_words, closure, end_of, letters_in, words_within
+from tests.samples import LETTERS, all_words, closure, end_of, letters_in, words_within
 
 
 def is_whole(thing):
@@ -59,6 +63,66 @@ def all_ahead(states, ahead):
         found |= fresh
         waiting += fresh
     return found
+
+
+# Points 3 and 11
+
+def least_states(expression):
+    """The least deterministic machine of an expression: its first state, its last states, and its moves.
+
+    Its states are numbered as they are met from the first one, by ascending letters; each lies on a path to a last one.
+    """
+    ahead = {}
+    for source, sign, target in edges_of(expression, 0, 1, itertools.count(2)):
+        ahead.setdefault((source, sign), []).append(target)
+    start = frozenset(all_ahead({0}, ahead))
+    sets, moves = [start], {}
+    for states in sets:
+        for letter in sorted(set(letters_in(str(expression)))):
+            targets = frozenset(all_ahead({t for s in states for t in ahead.get((s, letter), [])}, ahead))
+            if targets:
+                moves[states, letter] = targets
+                if targets not in sets:
+                    sets.append(targets)
+    kinds = {states: 1 in states for states in sets}
+    while True:
+        told = {states: (kinds[states], tuple((letter, kinds[target]) for (source, letter), target in sorted(
+            moves.items(), key=lambda move: move[0][1]) if source == states)) for states in sets}
+        names = {name: number for number, name in enumerate(dict.fromkeys(told[states] for states in sets))}
+        if len(names) == len(set(kinds.values())):
+            break
+        kinds = {states: names[told[states]] for states in sets}
+    lasts = {kinds[states] for states in sets if 1 in states}
+    steps = {(kinds[source], letter): kinds[target] for (source, letter), target in moves.items()}
+    return numbered_states(kinds[start], lasts, steps)
+
+
+def numbered_states(first, lasts, steps):
+    order = [first]
+    for state in order:
+        for source, letter in sorted(steps, key=lambda step: step[1]):
+            if source == state and steps[source, letter] not in order:
+                order.append(steps[source, letter])
+    moves = sorted((order.index(source), letter, order.index(target)) for (source, letter), target in steps.items())
+    return 0, sorted(order.index(state) for state in lasts), moves
+
+
+def machine_told(expression):
+    """The machine with the words of an expression, numbered, or None if there is none."""
+    first, lasts, moves = least_states(expression)
+    entering = [(letter, target) for _, letter, target in moves]
+    if len(lasts) > 1 or len(entering) > len(set(entering)):
+        return None
+    return Machine(1 + max([first, *lasts, *(target for _, _, target in moves)]), first, lasts[0], tuple(moves))
+
+
+def is_witness(expression, thing):
+    if type(thing) is not tuple or len(thing) != 4:
+        return False
+    if not all(type(word) is str and set(word) <= set(LETTERS) for word in thing):
+        return False
+    u, v, x, y = thing
+    return [is_word_of(expression, word) for word in (u + x, u + y, v + x, v + y)] == [True, True, True, False]
 
 
 # Point 9
@@ -218,3 +282,82 @@ def first_parting_word(machine, expression, most):
         if (end_of(machine, word) == machine.last) != (word in right):
             return word
     return None
+
+
+# Point 15
+
+def machine_read(thing):
+    try:
+        return Machine.read(thing)
+    except (BadText, BadMachine):
+        return None
+
+
+def expression_read(thing):
+    try:
+        return Expression.read(thing)
+    except BadText:
+        return None
+
+
+def is_any_word(thing):
+    return type(thing) is str and set(thing) <= set(LETTERS)
+
+
+def paper_read(thing):
+    """A paper with the expression in the place of its text, if a text is there."""
+    if type(thing) is tuple and len(thing) > 1 and thing[0] == "expression":
+        return ("expression", expression_read(thing[1]), *thing[2:])
+    return thing
+
+
+def is_finding(thing):
+    if type(thing) is not tuple or len(thing) < 3 or type(thing[0]) is not str:
+        return False
+    machine, expression = machine_read(thing[1]), expression_read(thing[2 if len(thing) == 4 else 1])
+    match thing:
+        case ("paper", _, depth, paper):
+            return machine is not None and is_whole(depth) and depth >= 0 and is_paper(
+                machine, depth, paper_read(paper))
+        case ("same", _, _, found):
+            return machine is not None and expression is not None and is_table(machine, expression, found)
+        case ("apart", _, _, word):
+            return machine is not None and expression is not None and is_any_word(word) and (
+                (end_of(machine, word) == machine.last) != is_word_of(expression, word))
+        case ("levels", _, given):
+            return machine is not None and are_levels(machine, given)
+        case ("witness", _, found):
+            return expression is not None and is_witness(expression, found)
+        case ("reading", text, word, found):
+            expression = expression_read(text)
+            return expression is not None and is_any_word(word) and word_read(expression, found) == word
+    return False
+
+
+# Point 16
+
+def answer_told(kept, command):
+    """The answer of a console that keeps a machine, or None, or the class of its error; and what it keeps then."""
+    if type(command) is not str or not re.fullmatch(
+            "rank|show|takes (-|[a-z]+)|flat (0|[1-9][0-9]?)|(machine|from|apart) [^\n]+", command):
+        return InvalidCommand, kept
+    name, _, text = command.partition(" ")
+    if name == "machine":
+        machine = machine_read(text.replace(";", "\n"))
+        return (InvalidCommand, kept) if machine is None else ("ok", machine)
+    expression = expression_read(text)
+    if name in ("from", "apart") and expression is None:
+        return InvalidCommand, kept
+    if name == "from":
+        machine = machine_told(expression)
+        return ("no", kept) if machine is None else ("ok", machine)
+    if kept is None:
+        return NoMachine, kept
+    answers = {
+        "rank": lambda: str(rank_told(kept)),
+        "show": lambda: str(kept).replace("\n", ";"),
+        "takes": lambda: "yes" if end_of(kept, text.strip("-")) == kept.last else "no",
+        "flat": lambda: "yes" if rank_told(kept) <= int(text) else "no",
+        "apart": lambda: {None: "=", "": "-"}.get(word := parting_word(kept, expression), word),
+    }
+    return answers[name](), kept

@@ -3,10 +3,12 @@
 import itertools
 import random
 
+from loopsdeep.console import Console
 from loopsdeep.errors import BadMachine, LoopError
 from loopsdeep.expressions import Expression, letter, one
 from loopsdeep.machines import Machine
 from loopsdeep.makers import all_ways, corridor, ring
+from loopsdeep.walks import Walk
 
 LETTERS = "abcdefghijklmnopqrstuvwxyz"
 
@@ -26,7 +28,7 @@ def odd_values():
         (), (0,), (-1,), (True,), (False, "a", 0), (0, "a", 0), (0, "a", 1, 2), ((0, "a", 0),), (0, 1, 2), ("a",),
         [], [0], ["a"], [(0, "a", 0)], {}, {"a": 1}, {0: []}, ([],), ({},), ((),), nested(30),
         ring(2), corridor(3), one(), letter("a"), Expression.read("(a b)*"), (ring(1),), (one(),), [letter("a")],
-        LoopError(), BadMachine("size"), Machine, letter,
+        Walk(ring(2)), (Walk(ring(1)), Console()), LoopError(), BadMachine("size"), Machine, letter,
     ]
 
 
@@ -68,6 +70,34 @@ def expression_otherwise(rng, expression):
     except LoopError:
         return rng.choice([text, None, expression.kind, expression.parts, expression.loop(), expression.maybe(),
                            expression.backward(), expression + one(), one() | expression])
+
+
+def text_otherwise(rng, text):
+    """A string with some of its signs left out, given twice, exchanged with others or replaced."""
+    signs = list(text)
+    for _ in range(rng.choice([1, 1, 1, 2, 3])):
+        at = rng.randrange(len(signs) + 1)
+        end = at + rng.choice([1, 1, 1, 2, 5])
+        how = rng.randrange(4)
+        if how == 0:
+            del signs[at:end]
+        elif how == 1:
+            signs[at:at] = signs[at:end]
+        elif how == 2:
+            signs[at:end] = signs[at:end][::-1]
+        else:
+            signs[at:at + 1] = rng.choice("ab1 |()*+?;0127-\nAZ{" + text[:1])
+    return "".join(signs)
+
+
+def told_otherwise(rng, value):
+    """A value as made_otherwise makes it, but for strings of more than one sign, which are mostly still alike."""
+    if isinstance(value, str) and len(value) > 1 and rng.random() < 0.9:
+        return text_otherwise(rng, value)
+    if isinstance(value, tuple) and value and rng.random() < 0.7:
+        at = rng.randrange(len(value))
+        return (*value[:at], told_otherwise(rng, value[at]), *value[at + 1:])
+    return made_otherwise(rng, value)
 
 
 def shown(value):
@@ -115,6 +145,11 @@ def states_on_paths(first, last, moves):
     ahead = closure(first, [(s, t) for s, _, t in moves])
     behind = closure(last, [(t, s) for s, _, t in moves])
     return ahead & behind
+
+
+def levels_of_any_kind(rng, machine):
+    """Levels no two of which are the same, perhaps with gaps."""
+    return tuple(rng.sample([1, 2, 3, 5, 8, 13, 21], machine.size))
 
 
 def random_machines(seed, many, **how):

@@ -1,13 +1,16 @@
-"""The examples of points 1 and 18, for what has been built."""
+"""The examples of points 1 and 18."""
 
 import unittest
 
 from loopsdeep.expressions import Expression, letter
+from loopsdeep.findings import finding_holds
 from loopsdeep.judging import expression_for, judge, judge_holds, parting_word, table, table_holds
+from loopsdeep.machines import Machine
 from loopsdeep.makers import corridor, ring
 from loopsdeep.positions import lot_behind
 from loopsdeep.ranks import knots, levels_hold, nest, nest_holds, rank
 from loopsdeep.readings import reading, reading_holds
+from loopsdeep.reversing import machine_of, witness, witness_holds
 
 THREE_DEEP = Expression.read("(a (a (a b)* b)* b)*")
 TWO_DEEP = Expression.read("(1 | (a ((b a) | (a (a b)* b))* b))")
@@ -54,6 +57,17 @@ class ExamplesTest(unittest.TestCase):
         expression = Expression.read("(a | b)*")
         self.assertEqual(reading(expression, "ab"), ((0, "a"), (1, "b")))
         self.assertIs(reading_holds(expression, "ab", ((0, "a"), (1, "b"))), True)
+
+    def test_witness(self):
+        expression = Expression.read("(a | (a b))")
+        self.assertIs(witness_holds(expression, ("a", "ab", "", "b")), True)
+        self.assertIs(witness_holds(expression, witness(expression)), True)
+        self.assertIs(finding_holds(("witness", "(a | (a b))", ("a", "ab", "", "b"))), True)
+
+    def test_machine_of(self):
+        self.assertEqual(machine_of(Expression.read("(a b)*")), Machine(2, 0, 0, ((0, "a", 1), (1, "b", 0))))
+        for expression in (THREE_DEEP, TWO_DEEP):
+            self.assertEqual(machine_of(expression), corridor(4))
 
 
 if __name__ == "__main__":

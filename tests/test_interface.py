@@ -3,11 +3,14 @@
 import inspect
 import unittest
 
-from loopsdeep import errors, expressions, judging, machines, makers, positions, ranks, readings
+from loopsdeep import (
+    console, errors, expressions, findings, judging, machines, makers, positions, ranks, readings, reversing, walks)
+from loopsdeep.console import Console
 from loopsdeep.errors import BadLevels, BadText
 from loopsdeep.expressions import Expression, one
 from loopsdeep.machines import Machine
 from loopsdeep.makers import corridor
+from loopsdeep.walks import Walk
 from tests.samples import random_machines, sample_texts, shown
 
 # For each function: its parameters; "=" marks a default value, "*" those that follow as passed only by name.
@@ -25,7 +28,9 @@ FUNCTIONS = {
     judging: {"expression_for": ["machine", "*", "levels=None"], "table": ["machine", "expression"],
               "table_holds": ["machine", "expression", "thing"], "parting_word": ["machine", "expression"],
               "judge": ["machine", "depth"], "judge_holds": ["machine", "depth", "thing"]},
-    errors: {},
+    reversing: {"machine_of": ["expression"], "witness": ["expression"], "witness_holds": ["expression", "thing"]},
+    findings: {"finding_holds": ["thing"]},
+    walks: {}, console: {}, errors: {},
 }
 METHODS = {
     Machine: {"__init__": ["size", "first", "last", "moves"], "after": ["state", "letter"],
@@ -35,10 +40,14 @@ METHODS = {
     Expression: {"__init__": ["kind", "parts=()"], "read": ["text"], "loop": [], "some": [], "maybe": [],
                  "backward": [], "__str__": [], "__eq__": ["other"], "__add__": ["other"], "__or__": ["other"],
                  "__contains__": ["word"]},
+    Walk: {"__init__": ["machine"], "go": ["letter"], "undo": [], "tried": ["action"], "__len__": []},
+    Console: {"__init__": [], "run": ["command"]},
 }
+PROPERTIES = {Walk: {"state": int, "word": str, "is_done": bool}}
 ATTRIBUTES = {
     Machine: {"size": int, "first": int, "last": int, "moves": tuple, "letters": str},
     Expression: {"kind": str, "parts": tuple, "depth": int, "size": int, "letters": str},
+    Walk: {"machine": Machine},
 }
 
 
@@ -69,10 +78,18 @@ class InterfaceTest(unittest.TestCase):
             for name, parameters in methods.items():
                 self.assertIn(name, vars(kind))
                 self.assertEqual(told(getattr(kind, name)), parameters, name)
-        self.assertEqual((Machine.__module__, Expression.__module__), ("loopsdeep.machines", "loopsdeep.expressions"))
+        self.assertEqual([kind.__module__ for kind in METHODS], [
+            "loopsdeep.machines", "loopsdeep.expressions", "loopsdeep.walks", "loopsdeep.console"])
+
+    def test_properties(self):
+        for kind, properties in PROPERTIES.items():
+            for name, told_kind in properties.items():
+                self.assertIsInstance(vars(kind)[name], property)
+                self.assertIs(type(getattr(kind(corridor(2)), name)), told_kind)
 
     def test_attributes(self):
         made = random_machines(51, 20) + [Expression.read(text) for text in sample_texts()]
+        made += [Walk(machine) for machine in random_machines(55, 5)]
         for thing in made:
             for name, kind in ATTRIBUTES[thing.__class__].items():
                 self.assertIs(type(getattr(thing, name)), kind)
@@ -88,7 +105,7 @@ class InterfaceTest(unittest.TestCase):
                 kind.read(text=None)
 
     def test_no_object_is_iterated_over(self):
-        for thing in (corridor(3), Expression.read("(a b)")):
+        for thing in (corridor(3), Expression.read("(a b)"), Walk(corridor(3)), Console()):
             with self.assertRaises(TypeError):
                 iter(thing)
 

@@ -128,6 +128,20 @@ class CodeTest(unittest.TestCase):
                 if isinstance(node, ast.Constant):
                     self.assertNotIsInstance(node.value, (float, complex, bytes))
 
+    def test_finally_puts_names_back(self):
+        for path, tree in TREES.items():
+            for node in ast.walk(tree):
+                for statement in node.finalbody if isinstance(node, ast.Try) else ():
+                    self.assertIsInstance(statement, ast.Assign, path)
+                    self.assertIsInstance(statement.value, (ast.Name, ast.Attribute), path)
+
+    def test_properties_and_attributes_have_other_names(self):
+        decorated = {function.name for tree in TREES.values() for function in functions(tree) if function.decorator_list}
+        plain = {function.name for tree in TREES.values() for function in functions(tree) if not function.decorator_list}
+        stored = {node.attr for tree in TREES.values() for node in ast.walk(tree) if isinstance(node, ast.Attribute)
+                  and isinstance(node.ctx, ast.Store)}
+        self.assertEqual(decorated & (plain | stored), set())
+
     def test_double_underscores(self):
         for path, tree in TREES.items():
             for function in functions(tree):
