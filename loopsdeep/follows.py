@@ -30,9 +30,13 @@ class Follows:
 
     def reads(self, word):
         """Whether a word is one of the expression."""
+        # Long words meet few lots again and again.
+        known = {}
         lot = (-1,)
         for letter in word:
-            lot = self.lot_by(lot, letter)
+            if lot not in known:
+                known[lot] = self.lots_behind(lot)
+            lot = known[lot].get(letter, ())
         return self.is_end(lot)
 
     def lot_by(self, lot, letter):
